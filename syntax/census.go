@@ -60,16 +60,10 @@ func (c *census) params(l []api.Param) {
 	}
 }
 
-func (c *census) slotTypes(l []api.Slot) {
-	for _, s := range l {
-		c.typeIfAny(s.Type)
-	}
-}
-
 func (c *census) source(s api.Source) {
 	for _, d := range s.Defs {
-		c.slotTypes(d.Class.Slots)
 		for _, s := range d.Class.Slots {
+			c.typeIfAny(s.Type)
 			c.list(s.Init)
 		}
 		c.params(d.Method.Params)

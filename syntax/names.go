@@ -92,6 +92,29 @@ func cloneType(t api.Type) api.Type {
 	return t
 }
 
+// The bounds beyond which the document promises nothing: the levels of an argument, and the types that the 2^31 - 1 bytes of a result have room for, if each of them, of 64 bytes, is there three times.
+const (
+	mostLevels = 1 << 16
+	mostTypes  = (1<<31 - 1) / (3 * 64)
+)
+
+// room is how many types more can be copied.
+type room int
+
+// holds reports whether there is room for a type at a level. (There is none for a type that contains itself, of which copying would not end.)
+func (r *room) holds(t api.Type, level int) bool {
+	*r--
+	if *r < 0 || level > mostLevels {
+		return false
+	}
+	for _, a := range t.Args {
+		if !r.holds(a, level+1) {
+			return false
+		}
+	}
+	return true
+}
+
 // accessors returns the getter and the setter of a slot of a class.
 func accessors(class string, s api.Slot) []api.Def {
 	object := api.Param{Name: "object", Type: api.Type{Kind: api.TyClass, Name: class}}

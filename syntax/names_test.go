@@ -212,13 +212,75 @@ func TestP4_5Accessors(t *testing.T) {
 		t.Errorf("Accessors of a zero class = %+v", l)
 	}
 	// What is no class of a source.
-	l := []api.Type{{Kind: api.TyUnion}}
-	l[0].Args = l
-	if l := syntax.Accessors(api.ClassDef{Name: "c", Slots: []api.Slot{{Name: "x", Type: l[0], Alloc: api.SlInst}}}); len(l) != 0 {
-		t.Errorf("Accessors of a class with a type that contains itself are %d", len(l))
-	}
 	odd := syntax.Accessors(api.ClassDef{Name: "", Slots: []api.Slot{{Name: "1"}, {Name: long, Type: object(), Alloc: 9}}})
 	if len(odd) != 4 || odd[0].Method.Generic != "1" || odd[1].Method.Generic != "" || odd[2].Method.Body.Name != long || odd[3].Method.Generic != "" {
 		t.Errorf("Accessors of a class with odd names = %+v", odd)
+	}
+}
+
+// TestP4_5AccessorsLarge: slots have their methods however many types they have, and however deep these are.
+func TestP4_5AccessorsLarge(t *testing.T) {
+	wide := func(n int) api.Type {
+		return api.Type{Kind: api.TyUnion, Args: slices.Repeat([]api.Type{{Kind: api.TyBool}}, n)}
+	}
+	deep := func(n int) api.Type {
+		x := class("<c>")
+		for range n - 1 {
+			x = api.Type{Kind: api.TyUnion, Args: []api.Type{x}}
+		}
+		return x
+	}
+	for _, x := range []struct {
+		what  string
+		slots []api.Slot
+	}{
+		{"a type of 2999 parts", []api.Slot{{Name: "x", Type: wide(2999)}}},
+		{"a type of 3000 parts", []api.Slot{{Name: "x", Type: wide(3000)}}},
+		{"a type of 300000 parts", []api.Slot{{Name: "x", Type: wide(300000)}}},
+		{"types of 3000 parts in all", []api.Slot{{Name: "x", Type: wide(1000)}, {Name: "y", Type: wide(1000)}, {Name: "z", Type: wide(1000)}}},
+		{"a type of 101 levels", []api.Slot{{Name: "x", Type: deep(101)}}},
+		{"a type of 60000 levels", []api.Slot{{Name: "x", Type: deep(60000)}, {Name: "y", Type: deep(2)}}},
+		{"10000 slots", slices.Repeat([]api.Slot{{Name: "x", Type: object(), Alloc: api.SlInst}}, 10000)},
+	} {
+		l := syntax.Accessors(api.ClassDef{Name: "<a>", Slots: x.slots})
+		if len(l) != 2*len(x.slots) {
+			t.Errorf("%s: %d methods", x.what, len(l))
+			continue
+		}
+		for i, d := range l {
+			s, m := x.slots[i/2], d.Method
+			if !sameTypes(m.Result, s.Type) || i%2 == 1 && !sameTypes(m.Params[0].Type, s.Type) {
+				t.Errorf("%s: the method %d has another type", x.what, i)
+			}
+		}
+	}
+}
+
+// sameTypes compares types of any number of levels, and of equal numbers of parts.
+func sameTypes(a, b api.Type) bool {
+	for i := range a.Args {
+		if len(a.Args) != len(b.Args) || !sameTypes(a.Args[i], b.Args[i]) {
+			return false
+		}
+	}
+	return a.Kind == b.Kind && a.Name == b.Name && len(a.Args) == len(b.Args)
+}
+
+// TestP4_5AccessorsEndless: types that contain themselves are beyond what the document speaks of, but Accessors ends for them, too.
+func TestP4_5AccessorsEndless(t *testing.T) {
+	for _, n := range []int{1, 2, 16} {
+		l := make([]api.Type, n)
+		for i := range l {
+			l[i] = api.Type{Kind: api.TyUnion, Args: l}
+		}
+		right := api.Slot{Name: "x", Type: object(), Alloc: api.SlInst}
+		endless := api.Slot{Name: "y", Type: l[0], Alloc: api.SlInst}
+		if l := syntax.Accessors(api.ClassDef{Name: "c", Slots: []api.Slot{right, endless}}); len(l) != 0 {
+			t.Errorf("a type that contains itself %d times: %d methods", n, len(l))
+		}
+		endless.Alloc = api.SlVirt
+		if l := syntax.Accessors(api.ClassDef{Name: "c", Slots: []api.Slot{endless, right}}); len(l) != 2 {
+			t.Errorf("a virtual slot whose type contains itself %d times: %d methods", n, len(l))
+		}
 	}
 }
