@@ -284,3 +284,14 @@ func TestP4_5AccessorsEndless(t *testing.T) {
 		}
 	}
 }
+
+// TestP4_5AccessorsMany: Accessors ends for a type that has itself little memory, but more copies of parts than a result has room for.
+func TestP4_5AccessorsMany(t *testing.T) {
+	var x api.Type
+	for range 60 {
+		x = api.Type{Kind: api.TyUnion, Args: []api.Type{x, x}}
+	}
+	if l := syntax.Accessors(api.ClassDef{Name: "c", Slots: []api.Slot{{Name: "x", Type: x, Alloc: api.SlInst}}}); len(l) != 0 {
+		t.Errorf("a type with very many parts: %d methods", len(l))
+	}
+}
